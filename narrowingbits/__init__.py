@@ -1,0 +1,1 @@
+"""Narrowingbits: pictures told by bits."""
