@@ -4,7 +4,6 @@ from narrowingbits.errors import BadBits, Great, Outside
 
 MOST_ZEROS = 40
 GREATEST_COUNT = 2 ** 41 - 2
-GREATEST_SIGNED = 2 ** 40 - 1
 
 
 def is_number(thing):
@@ -31,8 +30,8 @@ def fixed(n, w):
     """The w binary digits of n, the highest first."""
     if n < 0 or w < 0 or n.bit_length() > w:
         raise Outside()
-    # The 1 ahead of the digits keeps their leading zeros; as a text, digits take time that grows
-    # with their number alone, while a shift for each one takes its square.
+    # Many digits are told fast as a text alone: a shift for each one takes time as their square.
+    # The 1 ahead of them keeps the leading zeros.
     text = f"{(1 << w) + n:b}"
     return [int(digit) for digit in text[1:]]
 
@@ -48,8 +47,7 @@ def count_bits(n):
 
 def signed_bits(n):
     """The signed code of a number."""
-    if not -GREATEST_SIGNED <= n <= GREATEST_SIGNED:
-        raise Great()
+    # A number that is too great for it makes a count that is too great, on both sides of 0.
     return count_bits(2 * n if n >= 0 else -2 * n - 1)
 
 

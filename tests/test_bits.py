@@ -6,7 +6,7 @@ from narrowingbits.bits import count_bits, fixed, read_count, read_signed, signe
 from narrowingbits.errors import BadBits, Great, Outside
 
 GREATEST = 2 ** 41 - 2
-NO_BITS = (2, -1, 1.0, 0.5, "1", None, [], (0,))
+NO_BITS = (2, -1, 10, "1", None)
 
 
 def digits(text):

@@ -76,7 +76,7 @@ class HexTest(unittest.TestCase):
             self.refused(text)
 
     def test_bad_bits(self):
-        for wrong in (2, -1, 1.0, "0", None, []):
+        for wrong in (2, -1, 10, "0", None):
             for bits in ([wrong], [0, 1, wrong], [wrong, 0, 0, 0, 0], [1] * 8 + [wrong]):
                 with self.assertRaises(BadBits):
                     hex_of(bits)

@@ -7,43 +7,69 @@ import os
 import unittest
 import warnings
 
-ROOT = os.path.join(os.path.dirname(os.path.dirname(os.path.abspath(__file__))), "narrowingbits")
-# The order of the interface: each module uses only those ahead of it.
-MODULES = ["errors", "bits", "hexes", "tables", "ranges", "telling", "pairs"]
+PACKAGE = os.path.join(os.path.dirname(os.path.dirname(os.path.abspath(__file__))), "narrowingbits")
+# In the order of the interface: each module uses only those ahead of it.
+MODULES = ["errors", "bits", "hexes", "tables", "ranges", "telling", "pairs", "grids", "steps",
+           "colours", "models", "lines", "settings", "orders", "pictures"]
+# For each module its functions with their parameters.
 FUNCTIONS = {
-    "bits": ["fixed(n, w)", "count_bits(n)", "signed_bits(n)", "read_count(bits, at)",
-             "read_signed(bits, at)"],
-    "hexes": ["hex_of(bits)", "bits_of(text)"],
-    "ranges": ["next_node(node, counts, j)", "end_of(node)"],
-    "telling": ["told_letters(bits, model)"],
-    "pairs": ["pair(a, b)", "back(s, d)"],
+    "bits": {"fixed": "n w", "count_bits": "n", "signed_bits": "n", "read_count": "bits at",
+             "read_signed": "bits at"},
+    "hexes": {"hex_of": "bits", "bits_of": "text"},
+    "ranges": {"next_node": "node counts j", "end_of": "node"},
+    "telling": {"told_letters": "bits model"},
+    "pairs": {"pair": "a b", "back": "s d"},
+    "steps": {"halved": "grid letter", "joined": "low high rect letter", "bands": "grid word",
+              "unbands": "parts rect word"},
+    "colours": {"coloured": "channels", "uncoloured": "channels"},
+    "lines": {"code_line": "rect planes layers rows", "read_line": "rect planes layers pieces",
+              "states": "rect planes layers pieces"},
+    "orders": {"tiles_of": "setting", "tile_rect": "setting j i", "lines_of": "setting",
+               "pieces_of": "setting"},
 }
-METHODS = {
-    "tables": {"Table": ["__init__(self, m)", "learn(self, j)"]},
-    "ranges": {"Ranger": ["__init__(self)", "take(self, counts, j)", "end(self)"]},
+# For each class its module, its methods with their parameters, and its properties.
+CLASSES = {
+    "Table": ("tables", {"__init__": "m", "learn": "j"}, ["counts", "total"]),
+    "Ranger": ("ranges", {"__init__": "", "take": "counts j", "end": ""}, ["doublings"]),
+    "Grid": ("grids", {"__init__": "rect rows", "at": "x y"}, ["rect", "rows"]),
+    "LineModel": ("models", {"__init__": "rect planes", "wanted": "", "wanted_counts": "",
+                             "take": "letter", "stretches": ""}, ["pass_number"]),
+    "Setting": ("settings", {"__init__": "rect mode tx ty word planes layers order"}, []),
+    "Picture": ("pictures", {"__init__": "rect channels"}, []),
 }
-PROPERTIES = {"tables": {"Table": ["counts", "total"]}, "ranges": {"Ranger": ["doublings"]}}
-NODES_THAT_ARE_NOT_ALLOWED = (ast.Global, ast.AsyncFunctionDef, ast.AsyncFor, ast.AsyncWith,
-                              ast.Await, ast.Import, ast.Div)
+LIBRARY = ["heapq", "math", "itertools", "collections", "__future__"]
+NOT_ALLOWED = (ast.Global, ast.AsyncFunctionDef, ast.AsyncFor, ast.AsyncWith, ast.Await, ast.Import,
+               ast.Div, ast.SetComp)
+DECORATORS = ["property", "staticmethod", "classmethod"]
 
 
-def read(name):
-    with open(os.path.join(ROOT, name + ".py"), encoding="utf-8") as file:
-        return file.read()
+def module_of(name):
+    return importlib.import_module("narrowingbits." + name)
+
+
+def parameters(function):
+    return list(inspect.signature(function).parameters)
 
 
 class FilesTest(unittest.TestCase):
 
     def setUp(self):
-        self.texts = {name: read(name) for name in MODULES}
+        self.texts = {}
+        for name in sorted(os.listdir(PACKAGE)):
+            if name != "__pycache__":
+                with open(os.path.join(PACKAGE, name), encoding="utf-8") as file:
+                    self.texts[name] = file.read()
         self.trees = {name: ast.parse(text) for name, text in self.texts.items()}
+        self.nodes = [(name, node) for name, tree in self.trees.items() for node in ast.walk(tree)]
 
-    def test_just_these_files_are_there(self):
-        there = sorted(name for name in os.listdir(ROOT) if name != "__pycache__")
-        self.assertEqual(there, sorted(name + ".py" for name in MODULES + ["__init__"]))
+    def test_the_modules_are_there_and_nothing_but_modules(self):
+        for name in MODULES + ["__init__"]:
+            self.assertIn(name + ".py", self.texts)
+        for name in self.texts:
+            self.assertTrue(name.endswith(".py"), name)
 
     def test_init_holds_nothing_but_a_docstring(self):
-        body = ast.parse(read("__init__")).body
+        body = self.trees["__init__.py"].body
         self.assertEqual(len(body), 1)
         self.assertIsInstance(body[0].value.value, str)
 
@@ -56,10 +82,9 @@ class FilesTest(unittest.TestCase):
                 self.assertTrue(all(" " <= sign <= "~" for sign in line), (name, line))
 
     def test_functions_have_at_most_40_lines(self):
-        for name, tree in self.trees.items():
-            for node in ast.walk(tree):
-                if isinstance(node, ast.FunctionDef):
-                    self.assertLessEqual(node.end_lineno - node.lineno + 1, 40, (name, node.name))
+        for name, node in self.nodes:
+            if isinstance(node, ast.FunctionDef):
+                self.assertLessEqual(node.end_lineno - node.lineno + 1, 40, (name, node.name))
 
     def test_no_warnings(self):
         for name, text in self.texts.items():
@@ -67,28 +92,26 @@ class FilesTest(unittest.TestCase):
                 warnings.simplefilter("error")
                 compile(text, name, "exec")
 
-    def test_no_forbidden_statements(self):
-        for name, tree in self.trees.items():
-            for node in ast.walk(tree):
-                self.assertNotIsInstance(node, NODES_THAT_ARE_NOT_ALLOWED, name)
-                if isinstance(node, ast.Constant):
-                    self.assertNotIsInstance(node.value, (float, complex), name)
-                    if isinstance(node.value, str):
-                        self.assertNotIn("%", node.value, name)
+    def test_statements_and_values(self):
+        for name, node in self.nodes:
+            self.assertNotIsInstance(node, NOT_ALLOWED, name)
+            if isinstance(node, ast.Constant):
+                self.assertNotIsInstance(node.value, (float, complex), name)
+                if isinstance(node.value, str):
+                    self.assertNotIn("%", node.value, name)
 
     def test_decorators(self):
-        for name, tree in self.trees.items():
-            for node in ast.walk(tree):
-                for decorator in getattr(node, "decorator_list", []):
-                    self.assertEqual(ast.unparse(decorator), "property", name)
+        for name, node in self.nodes:
+            for decorator in getattr(node, "decorator_list", []):
+                self.assertIn(ast.unparse(decorator).split(".")[-1], DECORATORS + ["setter"], name)
 
     def test_imports_are_of_modules_ahead(self):
-        for place, name in enumerate(MODULES):
-            ahead = ["narrowingbits." + other for other in MODULES[:place]]
-            for node in ast.walk(self.trees[name]):
-                if isinstance(node, ast.ImportFrom):
-                    self.assertIn(node.module, ahead, name)
-                    self.assertEqual(node.level, 0)
+        for name, node in self.nodes:
+            if isinstance(node, ast.ImportFrom) and node.module not in LIBRARY:
+                package, module = node.module.split(".")
+                self.assertEqual((package, node.level), ("narrowingbits", 0), name)
+                if module in MODULES and name[:-3] in MODULES:
+                    self.assertLess(MODULES.index(module), MODULES.index(name[:-3]))
 
     def test_imports_are_used(self):
         for name, tree in self.trees.items():
@@ -102,29 +125,23 @@ class FilesTest(unittest.TestCase):
 class InterfaceTest(unittest.TestCase):
 
     def test_functions_are_defined_in_their_files(self):
-        for name, forms in FUNCTIONS.items():
-            module = importlib.import_module("narrowingbits." + name)
-            for form in forms:
-                function = getattr(module, form.split("(")[0])
-                self.assertEqual(function.__module__, module.__name__)
-                self.assertEqual(function.__name__ + str(inspect.signature(function)), form)
+        for name, functions in FUNCTIONS.items():
+            for word, words in functions.items():
+                function = getattr(module_of(name), word)
+                self.assertEqual(function.__module__, "narrowingbits." + name)
+                self.assertEqual(parameters(function), words.split(), word)
 
     def test_methods_are_defined_in_their_classes(self):
-        for name, classes in METHODS.items():
-            module = importlib.import_module("narrowingbits." + name)
-            for word, forms in classes.items():
-                made = getattr(module, word)
-                self.assertEqual(made.__module__, module.__name__)
-                for form in forms:
-                    method = vars(made)[form.split("(")[0]]
-                    self.assertEqual(method.__name__ + str(inspect.signature(method)), form)
+        for word, (name, methods, _) in CLASSES.items():
+            made = getattr(module_of(name), word)
+            self.assertEqual(made.__module__, "narrowingbits." + name)
+            for method, words in methods.items():
+                self.assertEqual(parameters(vars(made)[method]), ["self"] + words.split(), (word, method))
 
     def test_properties_are_defined_in_their_classes(self):
-        for name, classes in PROPERTIES.items():
-            module = importlib.import_module("narrowingbits." + name)
-            for word, properties in classes.items():
-                for told in properties:
-                    self.assertIsInstance(vars(getattr(module, word))[told], property)
+        for word, (name, _, properties) in CLASSES.items():
+            for told in properties:
+                self.assertIsInstance(vars(getattr(module_of(name), word))[told], property)
 
 
 if __name__ == "__main__":
