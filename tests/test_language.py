@@ -10,7 +10,8 @@ import warnings
 PACKAGE = os.path.join(os.path.dirname(os.path.dirname(os.path.abspath(__file__))), "narrowingbits")
 # In the order of the interface: each module uses only those ahead of it.
 MODULES = ["errors", "bits", "hexes", "tables", "ranges", "telling", "pairs", "grids", "steps",
-           "colours", "models", "lines", "settings", "orders", "pictures"]
+           "colours", "models", "lines", "settings", "orders", "pictures", "coefs", "streams", "heads",
+           "boxes", "bounds", "gaps", "totals", "corners"]
 # For each module its functions with their parameters.
 FUNCTIONS = {
     "bits": {"fixed": "n w", "count_bits": "n", "signed_bits": "n", "read_count": "bits at",
@@ -26,6 +27,15 @@ FUNCTIONS = {
               "states": "rect planes layers pieces"},
     "orders": {"tiles_of": "setting", "tile_rect": "setting j i", "lines_of": "setting",
                "pieces_of": "setting"},
+    "coefs": {"coefs_of": "picture setting", "picture_of": "rows setting"},
+    "streams": {"code": "picture setting layers", "stream_states": "stream", "is_right": "stream",
+                "is_whole": "stream", "is_layered": "stream"},
+    "heads": {"head_bits": "setting", "stream_bits": "stream", "payload": "stream", "read_stream": "bits"},
+    "bounds": {"sample": "box c x y", "samples": "box", "widest": "box"},
+    "gaps": {"gap": "box c p q", "surely": "box c p q"},
+    "totals": {"total": "box c"},
+    "corners": {"corner": "box c x y greatest", "gap_corner": "box c p q greatest",
+                "total_corner": "box c greatest"},
 }
 # For each class its module, its methods with their parameters, and its properties.
 CLASSES = {
@@ -36,6 +46,9 @@ CLASSES = {
                              "take": "letter", "stretches": ""}, ["pass_number"]),
     "Setting": ("settings", {"__init__": "rect mode tx ty word planes layers order"}, []),
     "Picture": ("pictures", {"__init__": "rect channels"}, []),
+    "Stream": ("streams", {"__init__": "setting pieces", "__iter__": ""}, []),
+    "Box": ("boxes", {"__init__": "setting rows", "stretches": "", "members": "", "has": "picture",
+                      "__contains__": "picture", "inside": "other", "meet": "other", "nearest": ""}, []),
 }
 LIBRARY = ["heapq", "math", "itertools", "collections", "__future__"]
 NOT_ALLOWED = (ast.Global, ast.AsyncFunctionDef, ast.AsyncFor, ast.AsyncWith, ast.Await, ast.Import,
