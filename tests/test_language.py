@@ -11,7 +11,8 @@ PACKAGE = os.path.join(os.path.dirname(os.path.dirname(os.path.abspath(__file__)
 # In the order of the interface: each module uses only those ahead of it.
 MODULES = ["errors", "bits", "hexes", "tables", "ranges", "telling", "pairs", "grids", "steps",
            "colours", "models", "lines", "settings", "orders", "pictures", "coefs", "streams", "heads",
-           "boxes", "bounds", "gaps", "totals", "corners"]
+           "boxes", "bounds", "gaps", "totals", "corners", "guesses", "reading", "live", "cutting", "thrifts",
+           "moving", "joining"]
 # For each module its functions with their parameters.
 FUNCTIONS = {
     "bits": {"fixed": "n w", "count_bits": "n", "signed_bits": "n", "read_count": "bits at",
@@ -36,6 +37,14 @@ FUNCTIONS = {
     "totals": {"total": "box c"},
     "corners": {"corner": "box c x y greatest", "gap_corner": "box c p q greatest",
                 "total_corner": "box c greatest"},
+    "guesses": {"guess": "box", "off": "box"},
+    "reading": {"box_of": "stream", "told_box": "bits", "needed": "stream rect drop layers",
+                "least_bits": "stream w", "spent": "stream"},
+    "cutting": {"cut": "stream n", "keep_layers": "stream m", "thin": "stream counts"},
+    "thrifts": {"least_layers": "stream w", "thrift": "stream w"},
+    "moving": {"shrink": "stream n", "take": "stream j0 j1 i0 i1", "shift": "stream a b",
+               "reorder": "stream order"},
+    "joining": {"join_streams": "one other axis", "channel": "stream c", "bundle": "streams mode"},
 }
 # For each class its module, its methods with their parameters, and its properties.
 CLASSES = {
@@ -49,6 +58,7 @@ CLASSES = {
     "Stream": ("streams", {"__init__": "setting pieces", "__iter__": ""}, []),
     "Box": ("boxes", {"__init__": "setting rows", "stretches": "", "members": "", "has": "picture",
                       "__contains__": "picture", "inside": "other", "meet": "other", "nearest": ""}, []),
+    "Live": ("live", {"__init__": "", "feed": "bits", "box": "", "letters": ""}, []),
 }
 LIBRARY = ["heapq", "math", "itertools", "collections", "__future__"]
 NOT_ALLOWED = (ast.Global, ast.AsyncFunctionDef, ast.AsyncFor, ast.AsyncWith, ast.Await, ast.Import,
