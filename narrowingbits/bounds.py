@@ -10,10 +10,6 @@ from narrowingbits.steps import low_rect
 PLAIN = 0
 FIRST = 1
 SECOND = 2
-# For red, green and blue the line channels that come in, and how.
-COLOUR_PARTS = (((0, PLAIN), (1, SECOND), (2, FIRST)),
-                ((0, PLAIN), (1, FIRST)),
-                ((0, PLAIN), (1, SECOND), (2, SECOND)))
 
 
 def sample(box, c, x, y):
@@ -64,7 +60,12 @@ def tables_of(box):
 
 def channel_parts(mode, c):
     """The line channels whose numbers come into a channel's samples, and how."""
-    return COLOUR_PARTS[c] if mode == COLOURED_MODE else ((c, PLAIN),)
+    if mode != COLOURED_MODE:
+        return [(c, PLAIN)]
+    red = [(0, PLAIN), (1, SECOND), (2, FIRST)]
+    green = [(0, PLAIN), (1, FIRST)]
+    blue = [(0, PLAIN), (1, SECOND), (2, SECOND)]
+    return [red, green, blue][c]
 
 
 def way_of(setting, x, y):

@@ -73,6 +73,12 @@ class FormTest(unittest.TestCase):
             with self.assertRaises(BadGrid, msg=rows):
                 Box(THREE_CELLS, rows)
 
+    def test_lines_and_rows_of_other_kinds(self):
+        for line in (5, None, "ab", {}, [5], [None], [(1, 2)], [{}], ["a"], (1, 2)):
+            for rows in ([line, [[(0, 0)]]], [[[(0, 0)]], line]):
+                with self.assertRaises(BadGrid, msg=line):
+                    Box(TWO_CELLS, rows)
+
     def test_other_forms_of_stretches(self):
         for stretch in ((1, 0), (-3, -4), (10 ** 30, 0), (1,), (1, 2, 3), (), 5, None, "ab"):
             for rows in ([[[stretch]], [[(0, 0)]]], [[[(0, 0)]], [[stretch]]]):

@@ -1,6 +1,7 @@
 """What can be seen of the language rules and of the package's form by looking at its files."""
 
 import ast
+import builtins
 import importlib
 import inspect
 import os
@@ -63,11 +64,34 @@ CLASSES = {
 LIBRARY = ["heapq", "math", "itertools", "collections", "__future__"]
 NOT_ALLOWED = (ast.Global, ast.AsyncFunctionDef, ast.AsyncFor, ast.AsyncWith, ast.Await, ast.Import,
                ast.Div, ast.SetComp)
+CHANGING = ["append", "clear", "extend", "insert", "pop", "remove", "reverse", "setdefault", "sort", "update"]
 DECORATORS = ["property", "staticmethod", "classmethod"]
 
 
 def module_of(name):
     return importlib.import_module("narrowingbits." + name)
+
+
+def names_bound_in(function):
+    """The parameters and local variables of a function."""
+    names = [argument.arg for argument in function.args.args + function.args.kwonlyargs]
+    return names + [node.id for node in ast.walk(function)
+                    if isinstance(node, ast.Name) and isinstance(node.ctx, ast.Store) and node.id != "_"]
+
+
+def names_called_in(function):
+    return [node.func.id if isinstance(node.func, ast.Name) else node.func.attr for node in ast.walk(function)
+            if isinstance(node, ast.Call) and isinstance(node.func, (ast.Name, ast.Attribute))]
+
+
+def created_in(function):
+    """The local variables that a function assigns nothing but a list that it writes there."""
+    assigned = {}
+    for node in ast.walk(function):
+        if isinstance(node, ast.Assign) and isinstance(node.targets[0], ast.Name):
+            assigned.setdefault(node.targets[0].id, []).append(node.value)
+    return [word for word, values in assigned.items()
+            if all(isinstance(value, (ast.List, ast.ListComp)) for value in values)]
 
 
 def parameters(function):
@@ -143,6 +167,47 @@ class FilesTest(unittest.TestCase):
             used = [node.id for node in ast.walk(tree) if isinstance(node, ast.Name)]
             for word in imported:
                 self.assertIn(word, used, name)
+
+
+    def test_names_of_parameters_and_local_variables(self):
+        for name, tree in self.trees.items():
+            taken = dir(builtins) + [node.name for node in tree.body if isinstance(node, ast.ClassDef)]
+            taken += [alias.name for node in tree.body if isinstance(node, ast.ImportFrom) for alias in node.names]
+            for node in ast.walk(tree):
+                if isinstance(node, ast.FunctionDef):
+                    for word in names_bound_in(node):
+                        self.assertNotIn(word, taken, (name, node.name))
+
+    def test_what_operators_and_properties_run(self):
+        """They call nothing that they are passed, and change nothing but what they create."""
+        functions = {}
+        for _, node in self.nodes:
+            if isinstance(node, ast.FunctionDef):
+                functions.setdefault(node.name, []).append(node)
+            if isinstance(node, ast.ClassDef):
+                functions.setdefault(node.name, []).extend(
+                    method for method in node.body if isinstance(method, ast.FunctionDef) and method.name == "__init__")
+        left = functions["__contains__"] + [node for _, node in self.nodes if isinstance(node, ast.FunctionDef)
+                                            and [ast.unparse(word) for word in node.decorator_list] == ["property"]]
+        seen = []
+        while left:
+            function = left.pop()
+            if function not in seen:
+                seen.append(function)
+                self.assert_changes_nothing(function)
+                for word in names_called_in(function):
+                    left.extend(functions.get(word, []))
+        self.assertGreater(len(seen), 20)
+
+    def assert_changes_nothing(self, function):
+        bound = names_bound_in(function)
+        for node in ast.walk(function):
+            if isinstance(node, ast.Call) and isinstance(node.func, ast.Name):
+                self.assertNotIn(node.func.id, bound, function.name)
+            if isinstance(node, (ast.Attribute, ast.Subscript)) and not isinstance(node.ctx, ast.Load):
+                self.assertEqual(function.name, "__init__", ast.unparse(node))
+            if isinstance(node, ast.Call) and isinstance(node.func, ast.Attribute) and node.func.attr in CHANGING:
+                self.assertIn(ast.unparse(node.func.value).split("[")[0], created_in(function), function.name)
 
 
 class InterfaceTest(unittest.TestCase):
