@@ -22,7 +22,7 @@ class BoxReader:
         """The box of the stream of these pieces, which stand in piece order."""
         setting = self._setting
         lines = pieces_by_line(setting, pieces)
-        for c, j, i, b, rect in lines_of(setting):
+        for c, j, i, b, rect in list(lines_of(setting)):
             line = (c, j, i, b)
             if line not in self._told or self._told[line][0] != lines[line]:
                 model = read_line(rect, setting.planes, setting.layers, lines[line])
