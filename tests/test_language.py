@@ -13,7 +13,8 @@ PACKAGE = os.path.join(os.path.dirname(os.path.dirname(os.path.abspath(__file__)
 MODULES = ["errors", "bits", "hexes", "tables", "ranges", "telling", "pairs", "grids", "steps",
            "colours", "models", "lines", "settings", "orders", "pictures", "coefs", "streams", "heads",
            "boxes", "bounds", "gaps", "totals", "corners", "guesses", "reading", "live", "cutting", "thrifts",
-           "moving", "joining"]
+           "moving", "joining", "turning", "making", "moved", "films", "filmboxes", "filmbits", "filmmoves",
+           "filmdeeds"]
 # For each module its functions with their parameters.
 FUNCTIONS = {
     "bits": {"fixed": "n w", "count_bits": "n", "signed_bits": "n", "read_count": "bits at",
@@ -46,6 +47,17 @@ FUNCTIONS = {
     "moving": {"shrink": "stream n", "take": "stream j0 j1 i0 i1", "shift": "stream a b",
                "reorder": "stream order"},
     "joining": {"join_streams": "one other axis", "channel": "stream c", "bundle": "streams mode"},
+    "turning": {"mirror": "stream", "swap": "stream", "turned": "stream word", "lighten": "stream c"},
+    "making": {"patch": "stream j i picture", "retile": "stream tx ty", "relayer": "stream planes layers"},
+    "moved": {"shrunk": "picture setting n", "mirrored": "picture", "swapped": "picture",
+              "taken": "picture setting j0 j1 i0 i1"},
+    "films": {"film": "pictures setting leans", "coefs_of_frame": "film n"},
+    "filmboxes": {"frame_box": "film n", "chain": "film n"},
+    "filmbits": {"film_bits": "film", "read_film": "bits", "told_film": "bits", "film_cut": "film n"},
+    "filmmoves": {"film_shrink": "film n", "film_take": "film j0 j1 i0 i1", "film_shift": "film a b",
+                  "film_turned": "film word", "film_reorder": "film order", "film_keep_layers": "film m"},
+    "filmdeeds": {"film_lighten": "film c", "relean": "film n m", "leave_out": "film k",
+                  "add_frame": "film picture lean", "glue": "one other"},
 }
 # For each class its module, its methods with their parameters, and its properties.
 CLASSES = {
@@ -60,6 +72,7 @@ CLASSES = {
     "Box": ("boxes", {"__init__": "setting rows", "stretches": "", "members": "", "has": "picture",
                       "__contains__": "picture", "inside": "other", "meet": "other", "nearest": ""}, []),
     "Live": ("live", {"__init__": "", "feed": "bits", "box": "", "letters": ""}, []),
+    "Film": ("films", {"__init__": "setting frames"}, []),
 }
 LIBRARY = ["heapq", "math", "itertools", "collections", "__future__"]
 NOT_ALLOWED = (ast.Global, ast.AsyncFunctionDef, ast.AsyncFor, ast.AsyncWith, ast.Await, ast.Import,
@@ -146,6 +159,25 @@ class FilesTest(unittest.TestCase):
                 self.assertNotIsInstance(node.value, (float, complex), name)
                 if isinstance(node.value, str):
                     self.assertNotIn("%", node.value, name)
+
+    def test_exponents_are_literals(self):
+        for name, node in self.nodes:
+            if isinstance(node, ast.BinOp) and isinstance(node.op, ast.Pow):
+                self.assertIsInstance(node.right, ast.Constant, (name, node.lineno))
+
+    def test_lists_and_dicts_at_module_level_are_only_read(self):
+        for name, tree in self.trees.items():
+            tables = [node.targets[0].id for node in tree.body if isinstance(node, ast.Assign)
+                      and isinstance(node.value, (ast.List, ast.Dict))]
+            for node in ast.walk(tree):
+                if isinstance(node, ast.Call):
+                    passed = node.args + [keyword.value for keyword in node.keywords]
+                    for word in [one.id for one in passed if isinstance(one, ast.Name) and one.id in tables]:
+                        self.assertIn(ast.unparse(node.func), ["len", "list", "dict", "sorted"], (name, word))
+                if isinstance(node, (ast.Return, ast.Assign)) and isinstance(node.value, ast.Name):
+                    self.assertNotIn(node.value.id, tables, name)
+                if isinstance(node, ast.Subscript) and isinstance(node.value, ast.Name) and node.value.id in tables:
+                    self.assertIsInstance(node.ctx, ast.Load, name)
 
     def test_decorators(self):
         for name, node in self.nodes:

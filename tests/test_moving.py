@@ -3,69 +3,24 @@
 import itertools
 import unittest
 
-from narrowingbits.colours import coloured, uncoloured
 from narrowingbits.cutting import cut
 from narrowingbits.errors import BadField, Outside
-from narrowingbits.grids import Grid
 from narrowingbits.moving import reorder, shift, shrink, take
 from narrowingbits.orders import ORDERS, lines_of, pieces_of, tile_rect, tiles_of
 from narrowingbits.pictures import Picture
 from narrowingbits.reading import box_of
 from narrowingbits.settings import Setting
-from narrowingbits.steps import halved
 from narrowingbits.streams import Stream, code
 
-from picture_reference import (FORMS, changed, coded_picture, fields_of, members_of, piece_table, some_settings, spoilt,
+from deed_reference import (broken_streams, low_picture, low_setting, part_of, rows_by_line,
+                            settings_in_many_orders)
+from picture_reference import (FORMS, changed, coded_picture, fields_of, members_of, piece_table, some_settings,
                                stream_told, told)
 
 FAR = 2 ** 30
 TWO_CELLS = Setting((0, 2, 0, 1), 0, 1, 0, "X", 3, (9,), "LBTC")
 EXAMPLE = code(Picture((0, 2, 0, 1), [[[5, 2]]]), TWO_CELLS)
 PIECE = [0, 0, 1, 1, 1, 1]
-
-
-def settings_in_many_orders():
-    for number, setting in enumerate(some_settings()):
-        for order in ORDERS[number % 4::6]:
-            yield changed(setting, order=order)
-
-
-def broken_streams(setting, number):
-    """A stream that is cut and spoilt ones."""
-    stream = code(coded_picture(setting, number), setting)
-    many = sum(len(piece) for piece in stream)
-    return [cut(stream, many // 3), cut(stream, many * 2 // 3), spoilt(stream, number), spoilt(stream, number + 9)]
-
-
-def low_picture(picture, mode, letters):
-    """The low part of each line channel, letter by letter."""
-    rect = picture.rect
-    channels = coloured(picture.channels) if mode == 2 else picture.channels
-    for letter in letters:
-        lows = [halved(Grid(rect, rows), letter)[0] for rows in channels]
-        rect, channels = lows[0].rect, [low.rows for low in lows]
-    return Picture(rect, uncoloured(channels) if mode == 2 else channels)
-
-
-def low_setting(setting, n):
-    x0, x1, y0, y1 = setting.rect
-    tx, ty = setting.tx, setting.ty
-    for letter in setting.word[:n]:
-        if letter == "X":
-            x0, x1, tx = x0 // 2, (x1 + 1) // 2, tx - 1
-        else:
-            y0, y1, ty = y0 // 2, (y1 + 1) // 2, ty - 1
-    return changed(setting, rect=(x0, x1, y0, y1), tx=tx, ty=ty, word=setting.word[n:])
-
-
-def part_of(picture, rect):
-    x0, _, y0, _ = picture.rect
-    return Picture(rect, [[row[rect[0] - x0:rect[1] - x0] for row in rows[rect[2] - y0:rect[3] - y0]]
-                          for rows in picture.channels])
-
-
-def rows_by_line(stream):
-    return {line[:4]: rows for line, rows in zip(lines_of(stream.setting), box_of(stream).stretches())}
 
 
 def spans_of_tiles(setting):
