@@ -14,7 +14,7 @@ MODULES = ["errors", "bits", "hexes", "tables", "ranges", "telling", "pairs", "g
            "colours", "models", "lines", "settings", "orders", "pictures", "coefs", "streams", "heads",
            "boxes", "bounds", "gaps", "totals", "corners", "guesses", "reading", "live", "cutting", "thrifts",
            "moving", "joining", "turning", "making", "moved", "films", "filmboxes", "filmbits", "filmmoves",
-           "filmdeeds"]
+           "filmdeeds", "checks", "cells", "holes", "papers", "judges", "texts", "streamtexts", "studio"]
 # For each module its functions with their parameters.
 FUNCTIONS = {
     "bits": {"fixed": "n w", "count_bits": "n", "signed_bits": "n", "read_count": "bits at",
@@ -58,6 +58,14 @@ FUNCTIONS = {
                   "film_turned": "film word", "film_reorder": "film order", "film_keep_layers": "film m"},
     "filmdeeds": {"film_lighten": "film c", "relean": "film n m", "leave_out": "film k",
                   "add_frame": "film picture lean", "glue": "one other"},
+    "checks": {"check": "bits"},
+    "cells": {"protect": "bits group", "good": "protected group", "open_cells": "protected group"},
+    "holes": {"read_holes": "bits"},
+    "papers": {"make": "stream word n things"},
+    "judges": {"judge": "stream paper"},
+    "texts": {"text_of_setting": "setting", "text_of_picture": "picture", "setting_of": "text",
+              "picture_read": "text"},
+    "streamtexts": {"text_of_stream": "stream", "stream_of": "text"},
 }
 # For each class its module, its methods with their parameters, and its properties.
 CLASSES = {
@@ -73,6 +81,8 @@ CLASSES = {
                       "__contains__": "picture", "inside": "other", "meet": "other", "nearest": ""}, []),
     "Live": ("live", {"__init__": "", "feed": "bits", "box": "", "letters": ""}, []),
     "Film": ("films", {"__init__": "setting frames"}, []),
+    "Studio": ("studio", {"__init__": "", "do": "row", "undo": "", "redo": "", "stream": "name", "names": "",
+                          "trial": "", "tried": "rows"}, []),
 }
 LIBRARY = ["heapq", "math", "itertools", "collections", "__future__"]
 NOT_ALLOWED = (ast.Global, ast.AsyncFunctionDef, ast.AsyncFor, ast.AsyncWith, ast.Await, ast.Import,

@@ -21,7 +21,7 @@ from picture_reference import (changed, coded_picture, fields_of, filled_rows, p
 TWO_CELLS = Setting((0, 2, 0, 1), 0, 1, 0, "X", 3, (9,), "LBTC")
 EXAMPLE = code(Picture((0, 2, 0, 1), [[[5, 2]]]), TWO_CELLS)
 WORDS = ("", "M", "S", "SM", "MS", "MM", "SS", "MSM", "SMS", "MSMS", "SMSM", "SMSMS", "MSMSMS", "MSMSMSM", "MSSM",
-         "MSMSMSMS", "SMSMSMSM", "MSMSMSMSM", "SSSMMMS")
+         "MSMSMSMS", "SMSMSMSM", "MSMSMSMSM", "SSSMMMS", "MMSMSMSM", "SSMSMSMS", "MMMSSSMSMSM")
 SAME = ("", "MM", "SS", "MSMSMSMS", "SMSMSMSM", "MSSM", "SMMS", "MSMSMSMS" * 40, "MM" * 300 + "SS" * 300)
 
 
