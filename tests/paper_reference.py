@@ -87,15 +87,6 @@ def judged_by_words(paper, members):
     return is_among(member, members) and abs(sample_of(picture, c, p) - sample_of(member, c, p)) >= off_of(members)
 
 
-def strange_pictures(picture):
-    """Pictures with another rect or another number of channels."""
-    x0, x1, y0, y1 = picture.rect
-    channels = picture.channels
-    return [Picture((x0 + 1, x1 + 1, y0, y1), channels), Picture((x0, x1, y0 - 1, y1 - 1), channels),
-            Picture((x0, x1 + 1, y0, y1), [[row + [0] for row in rows] for rows in channels]),
-            Picture(picture.rect, channels * 3 if len(channels) == 1 else channels[:1])]
-
-
 def changed_cell(picture, c, p, by):
     """The picture with one sample changed."""
     channels = picture.channels

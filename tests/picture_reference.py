@@ -83,6 +83,15 @@ def told(picture):
     return (picture.rect, picture.channels)
 
 
+def strange_pictures(picture):
+    """Pictures with another rect or another number of channels."""
+    x0, x1, y0, y1 = picture.rect
+    channels = picture.channels
+    return [Picture((x0 + 1, x1 + 1, y0, y1), channels), Picture((x0, x1, y0 - 1, y1 - 1), channels),
+            Picture((x0, x1 + 1, y0, y1), [[row + [0] for row in rows] for rows in channels]),
+            Picture(picture.rect, channels * 3 if len(channels) == 1 else channels[:1])]
+
+
 def box_told(box):
     """What a box tells, None if it is none."""
     return None if box is None else (fields_of(box.setting), box.stretches())

@@ -14,8 +14,8 @@ from narrowingbits.settings import Setting
 from narrowingbits.streams import code
 
 from paper_reference import (bit_count, changed_cell, judged_by_words, off_of, paper_told, sample_of, small_boxes,
-                             spans_of, strange_pictures)
-from picture_reference import cells_of, channel_count, members_of, stream_told, told
+                             spans_of)
+from picture_reference import cells_of, channel_count, members_of, strange_pictures, stream_told, told
 
 TWO_CELLS = Setting((0, 2, 0, 1), 0, 1, 0, "X", 3, (9,), "LBTC")
 EXAMPLE = code(Picture((0, 2, 0, 1), [[[5, 2]]]), TWO_CELLS)

@@ -14,7 +14,8 @@ from narrowingbits.streams import code
 from narrowingbits.turning import mirror, swap
 
 from deed_reference import low_picture, part_of, settings_in_many_orders, turned_picture
-from picture_reference import changed, channel_count, coded_picture, some_picture, some_settings, told
+from picture_reference import (changed, channel_count, coded_picture, some_picture, some_settings, strange_pictures,
+                               told)
 
 COLOURS = Setting((0, 2, 0, 1), 2, 1, 0, "X", 3, (9,), "LBTC")
 GREAT = 10 ** 40
@@ -22,15 +23,6 @@ GREAT = 10 ** 40
 
 def of_stream(stream):
     return told(box_of(stream).nearest())
-
-
-def others(picture):
-    """Pictures that do not fit where the picture does."""
-    x0, x1, y0, y1 = picture.rect
-    channels = picture.channels
-    return [Picture((x0 + 1, x1 + 1, y0, y1), channels), Picture((x0, x1, y0 - 1, y1 - 1), channels),
-            Picture((x0, x1 + 1, y0, y1), [[row + [0] for row in rows] for rows in channels]),
-            Picture(picture.rect, channels * 3 if len(channels) == 1 else channels[:1])]
 
 
 class ShrunkTest(unittest.TestCase):
@@ -73,7 +65,7 @@ class ShrunkTest(unittest.TestCase):
     def test_unlike_then_outside(self):
         for setting in some_settings():
             picture = coded_picture(setting, 1)
-            for other in others(picture):
+            for other in strange_pictures(picture):
                 for n in (0, -1, 99):
                     with self.assertRaises(Unlike):
                         shrunk(other, setting, n)
@@ -144,10 +136,10 @@ class TakenTest(unittest.TestCase):
             for span in wrong:
                 with self.assertRaises(Outside):
                     taken(picture, setting, *span)
-                for other in others(picture):
+                for other in strange_pictures(picture):
                     with self.assertRaises(Unlike):
                         taken(other, setting, *span)
-            for other in others(picture):
+            for other in strange_pictures(picture):
                 with self.assertRaises(Unlike):
                     taken(other, setting, j, last_j + 1, i, last_i + 1)
 

@@ -15,9 +15,9 @@ from narrowingbits.settings import Setting
 from narrowingbits.streams import Stream, code
 
 from paper_reference import (bit_count, changed_cell, difference_of, is_among, judged_by_words, off_of, paper_told,
-                             sample_of, small_boxes, spans_of, strange_pictures)
+                             sample_of, small_boxes, spans_of)
 from picture_reference import (cells_of, channel_count, coded_picture, nearest_nought, some_settings, spoilt,
-                               stretch_table, stream_told, table_of, told)
+                               strange_pictures, stretch_table, stream_told, table_of, told)
 
 TWO_CELLS = Setting((0, 2, 0, 1), 0, 1, 0, "X", 3, (9,), "LBTC")
 EXAMPLE = code(Picture((0, 2, 0, 1), [[[5, 2]]]), TWO_CELLS)
