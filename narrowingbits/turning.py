@@ -40,8 +40,12 @@ def turned_anew(stream, word):
     fields = fields_of(stream.setting)
     lines = told_lines(stream)
     for letter in shortened(word):
-        lines = mirrored_lines(fields["word"], lines) if letter == MIRROR else swapped_lines(lines)
-        fields = mirrored_fields(fields) if letter == MIRROR else swapped_fields(fields)
+        if letter == MIRROR:
+            lines = mirrored_lines(fields["word"], lines)
+            fields = mirrored_fields(fields)
+        else:
+            lines = swapped_lines(lines)
+            fields = swapped_fields(fields)
     return coded_lines(Setting(**fields), lines)
 
 
